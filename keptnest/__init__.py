@@ -1,0 +1,1 @@
+"""Keptnest: questions over nested bags, and answers kept."""

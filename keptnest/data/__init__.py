@@ -1,0 +1,1 @@
+"""Values and how they are written and read."""

@@ -1,0 +1,223 @@
+"""The rules of LANGUAGE.md that can be seen in a file's own tree, asked of every file of the package."""
+
+import ast
+import builtins
+import pathlib
+import re
+import unittest
+
+PACKAGE = pathlib.Path(__file__).resolve().parent.parent / "keptnest"
+
+STATEMENTS = (
+    ast.Assign, ast.AugAssign, ast.If, ast.While, ast.For, ast.Return, ast.Break, ast.Continue, ast.Pass, ast.Raise,
+    ast.Try, ast.Expr, ast.FunctionDef,
+)
+EXPRESSIONS = (
+    ast.Constant, ast.Name, ast.List, ast.Tuple, ast.Dict, ast.Set, ast.BinOp, ast.UnaryOp, ast.BoolOp, ast.Compare,
+    ast.IfExp, ast.Call, ast.Attribute, ast.Subscript, ast.Slice, ast.ListComp, ast.JoinedStr, ast.FormattedValue,
+    ast.Lambda,
+)
+OWN_NAMES = (
+    "len range enumerate zip min max sum abs sorted reversed int str bool list tuple dict set frozenset isinstance "
+    "ord repr any all divmod Exception ValueError TypeError KeyError IndexError LookupError ZeroDivisionError "
+    "ArithmeticError OverflowError RuntimeError NotImplementedError AttributeError StopIteration"
+).split()
+OWN_METHODS = (
+    "append clear copy count endswith extend find get index insert isalnum isalpha isdigit islower isspace isupper "
+    "items join keys ljust lower lstrip partition pop remove replace reverse rfind rjust rpartition rsplit rstrip "
+    "setdefault split splitlines startswith strip update upper values zfill bit_length __init__"
+).split()
+NOWHERE = re.compile(
+    r"\b(type|typing|typing_extensions|enum|Enum|IntEnum|StrEnum|Flag|IntFlag|Generic|Protocol|ABC|ABCMeta|"
+    r"namedtuple|NamedTuple|TypedDict|TYPE_CHECKING|abstractmethod)\b|dataclass|overload|contextmanager"
+)
+TWO_UNDERSCORES = ("__init__", "__eq__", "__repr__", "__str__", "__len__")
+
+
+def faults(text, methods):
+    """Pairs (rule, row) of what stands against a rule in the text of a file."""
+    found = text_faults(text)
+    tree = ast.parse(text)
+    for node in tree.body:
+        found += top_faults(node)
+    for node in ast.walk(tree):
+        found += [(rule, getattr(node, "lineno", 0)) for rule in node_faults(node, methods)]
+    return found + branch_faults(tree, docstring_of(tree))
+
+
+def text_faults(text):
+    rows = text.split("\n")
+    found = [("L10", place) for place, row in enumerate(rows, 1) if len(row) > 120]
+    found += [("L14", place) for place, row in enumerate(rows, 1) if not all(" " <= sign <= "~" for sign in row)]
+    found += [("L17", place) for place, row in enumerate(rows, 1) if NOWHERE.search(row)]
+    return found + ([("L10", 400)] if len(rows) > 401 else [])
+
+
+def docstring_of(tree):
+    first = tree.body[0] if tree.body else None
+    return first if isinstance(first, ast.Expr) and isinstance(first.value, ast.Constant) else None
+
+
+def top_faults(node):
+    if isinstance(node, ast.Assign):
+        plain = (ast.Constant, ast.List, ast.Tuple, ast.Dict, ast.Name, ast.UnaryOp, ast.USub, ast.Load)
+        right = all(isinstance(part, plain) for part in ast.walk(node.value)) and isinstance(node.targets[0], ast.Name)
+        return [] if right else [("L3", node.lineno)]
+    if isinstance(node, ast.ImportFrom):
+        right = node.level == 0 and (node.module.startswith("keptnest.") or node.module == "__future__")
+        return [] if right and node.names[0].name != "*" else [("L2", node.lineno)]
+    doc = isinstance(node, ast.Expr) and isinstance(node.value, ast.Constant)
+    return [] if doc or isinstance(node, (ast.FunctionDef, ast.ClassDef)) else [("L3", node.lineno)]
+
+
+def branch_faults(tree, doc):
+    found = []
+    for top in tree.body:
+        for node in ast.walk(top):
+            if isinstance(node, ast.stmt) and node is not top and not isinstance(node, STATEMENTS):
+                found.append(("L6", node.lineno))
+            if isinstance(node, ast.Expr) and node is not doc and not isinstance(node.value, ast.Call):
+                found.append(("L6", node.lineno))
+            if isinstance(node, ast.expr) and not isinstance(node, EXPRESSIONS):
+                found.append(("L7", node.lineno))
+    return found
+
+
+def node_faults(node, methods):
+    if isinstance(node, ast.FunctionDef):
+        return def_faults(node)
+    if isinstance(node, ast.ClassDef):
+        bodies = all(isinstance(part, (ast.FunctionDef, ast.Pass)) for part in node.body)
+        return [] if bodies and len(node.bases) < 2 and not node.decorator_list and not node.keywords else ["L5"]
+    if isinstance(node, ast.Name):
+        return name_faults(node)
+    if isinstance(node, ast.Attribute):
+        return [] if node.attr in methods or node.attr in OWN_METHODS else ["L25"]
+    if isinstance(node, ast.Constant):
+        return constant_faults(node.value)
+    return shape_faults(node)
+
+
+def def_faults(node):
+    words = node.args
+    found = ["L4"] if words.vararg or words.kwarg or words.kwonlyargs or node.decorator_list else []
+    found += ["L10"] if node.end_lineno - node.lineno + 1 > 40 else []
+    found += ["L12"] if node.name.startswith("_") and node.name not in TWO_UNDERSCORES else []
+    for word in words.args:
+        found += ["L12"] if word.arg.startswith("_") else []
+        found += ["L15"] if word.arg in dir(builtins) else []
+    return found
+
+
+def name_faults(node):
+    found = ["L12"] if node.id.startswith("_") else []
+    own = node.id in dir(builtins)
+    if own and isinstance(node.ctx, ast.Store):
+        found.append("L15")
+    if own and node.id not in OWN_NAMES:
+        found.append("L8")
+    return found
+
+
+def constant_faults(value):
+    if isinstance(value, str):
+        return ["L27"] if "%" in value else []
+    return [] if value is None or isinstance(value, int) else ["L7"]
+
+
+def shape_faults(node):
+    if isinstance(node, ast.BinOp) and isinstance(node.op, (ast.Div, ast.MatMult)):
+        return ["L7"]
+    if isinstance(node, ast.BinOp) and isinstance(node.op, ast.Pow):
+        return [] if isinstance(node.right, ast.Constant) else ["L27"]
+    if isinstance(node, ast.ListComp):
+        return [] if len(node.generators) == 1 and len(node.generators[0].ifs) < 2 else ["L7"]
+    if isinstance(node, ast.FormattedValue):
+        return [] if isinstance(node.value, ast.Name) and not node.format_spec else ["L7"]
+    if isinstance(node, (ast.For, ast.While)):
+        return ["L6"] if node.orelse else []
+    if isinstance(node, ast.Try):
+        return ["L6"] if node.finalbody or not all(handler.type for handler in node.handlers) else []
+    if isinstance(node, ast.Assign):
+        return ["L6"] if len(node.targets) > 1 else []
+    if isinstance(node, ast.Compare) and any(isinstance(sign, (ast.Is, ast.IsNot)) for sign in node.ops):
+        beside = getattr(node.comparators[-1], "value", 0)
+        return [] if beside is None or isinstance(beside, bool) else ["L20"]
+    return []
+
+
+def own_attributes(texts):
+    """Methods and objects' values that the package itself has."""
+    found = []
+    for text in texts:
+        for node in ast.walk(ast.parse(text)):
+            if isinstance(node, ast.ClassDef):
+                found += [part.name for part in node.body if isinstance(part, ast.FunctionDef)]
+            if isinstance(node, ast.Attribute) and isinstance(node.ctx, ast.Store):
+                found.append(node.attr)
+    return found
+
+
+class TestLanguage(unittest.TestCase):
+    def setUp(self):
+        self.files = sorted(path for path in PACKAGE.rglob("*") if "__pycache__" not in path.parts)
+        self.texts = {path: path.read_text("ascii") for path in self.files if path.is_file()}
+
+    def test_files(self):
+        self.assertTrue(self.texts)
+        for path in self.files:
+            wanted = r"[a-z][a-z0-9_]*\.py|__init__\.py|__main__\.py" if path.is_file() else r"[a-z][a-z0-9_]*"
+            self.assertRegex(path.name, "^(" + wanted + ")$")
+            self.assertNotIn(path.stem, dir(builtins))
+            if path.is_dir():
+                self.assertTrue((path / "__init__.py").is_file(), path)
+
+    def test_rules(self):
+        methods = own_attributes(self.texts.values())
+        for path, text in self.texts.items():
+            self.assertEqual(faults(text, methods), [], path)
+
+    def test_a_method_in_one_class_is_no_value_in_another(self):
+        trees = [ast.parse(text) for text in self.texts.values()]
+        nodes = [node for tree in trees for node in ast.walk(tree)]
+        defs = [part.name for node in nodes if isinstance(node, ast.ClassDef) for part in node.body
+                if isinstance(part, ast.FunctionDef)]
+        kept = [node.attr for node in nodes if isinstance(node, ast.Attribute) and isinstance(node.ctx, ast.Store)]
+        self.assertEqual(set(defs) & set(kept), set())
+
+    def test_no_two_files_draw_from_one_another(self):
+        drawn = {self.module(path): self.drawn(text) for path, text in self.texts.items()}
+        for start in drawn:
+            seen, waiting = set(), list(drawn[start])
+            while waiting:
+                module = waiting.pop()
+                if module not in seen:
+                    seen.add(module)
+                    waiting += drawn[module]
+            self.assertNotIn(start, seen)
+
+    def module(self, path):
+        names = path.relative_to(PACKAGE.parent).with_suffix("").parts
+        return ".".join(names[:-1] if names[-1] == "__init__" else names)
+
+    def drawn(self, text):
+        found = []
+        for node in ast.parse(text).body:
+            if isinstance(node, ast.ImportFrom) and node.module != "__future__":
+                parts = node.module.split(".")
+                found += [".".join(parts[:end]) for end in range(1, len(parts) + 1)]
+        return found
+
+    def test_what_is_outside_is_seen(self):
+        outside = {
+            "import os": "L3", "from os import path": "L2", "x = len([])": "L3", "x = {1: 0.5}": "L7",
+            "def f():\n    \"\"\"Words.\"\"\"": "L6", "def f(*a):\n    return 1": "L4", "def f(id):\n    return 1": "L15",
+            "def f(a):\n    return type(a)": "L17", "def f(a):\n    return hash(a)": "L8",
+            "def f(a):\n    return a / 2": "L7", "def f(a):\n    return {b for b in a}": "L7",
+            "def f(a):\n    a.sort()": "L25", "def f(a):\n    _b = a": "L12", "def f(a):\n    return a is a": "L20",
+            "def f(a):\n    assert a": "L6", "def f(a):\n    return 2 ** a": "L27",
+            "class A:\n    x = 1": "L5", "def f():\n" + "    pass\n" * 40: "L10", "x = '%'": "L27",
+        }
+        for text, rule in outside.items():
+            rules = [found for found, row in faults(text, [])]
+            self.assertIn(rule, rules, text)
