@@ -42,7 +42,7 @@ def faults(text, methods):
         found += top_faults(node)
     for node in ast.walk(tree):
         found += [(rule, getattr(node, "lineno", 0)) for rule in node_faults(node, methods)]
-    return found + branch_faults(tree, docstring_of(tree))
+    return found + branch_faults(tree, docstring_of(tree)) + place_faults(tree) + name_faults_of_file(tree)
 
 
 def text_faults(text):
@@ -146,6 +146,79 @@ def shape_faults(node):
     return []
 
 
+WALKED = ("zip", "enumerate", "reversed", "range", "items", "keys", "values")
+WALKERS = ("list", "tuple", "dict", "sorted", "sum", "any", "all", "enumerate", "zip")
+KEYWORDS = {"sorted": ("key", "reverse"), "min": ("key", "default"), "max": ("key", "default"), "sum": ("start",),
+            "enumerate": ("start",), "zip": ("strict",)}
+
+
+def called(node):
+    """The name that a call calls, of a function or of a method."""
+    if not isinstance(node, ast.Call):
+        return None
+    return getattr(node.func, "id", getattr(node.func, "attr", None))
+
+
+def parents_of(tree):
+    return {part: node for node in ast.walk(tree) for part in ast.iter_child_nodes(node)}
+
+
+def place_faults(tree):
+    """What stands where it may not: L15, L22, L23, L24."""
+    parents, found = parents_of(tree), []
+    tops = {node.targets[0].id for node in tree.body
+            if isinstance(node, ast.Assign) and isinstance(node.value, (ast.List, ast.Dict))}
+    for node, parent in parents.items():
+        line = getattr(node, "lineno", 0)
+        if called(node) in WALKED and not walked_at_once(node, parent):
+            found.append(("L23", line))
+        if called(node) in ("set", "frozenset") and not isinstance(parent, (ast.Compare, ast.BinOp)):
+            found += [] if called(parent) in ("sorted", "len") and not parent.keywords else [("L24", line)]
+        if isinstance(node, ast.Call) and isinstance(node.func, ast.Name) and node.func.id in OWN_NAMES:
+            wrong = [word.arg for word in node.keywords if word.arg not in KEYWORDS.get(node.func.id, ())]
+            found += [("L22", line)] if wrong else []
+        if isinstance(node, ast.Name) and node.id in OWN_NAMES and called(parent) != node.id:
+            found += [] if kept_in_place(node, parent) else [("L22", line)]
+        if isinstance(node, ast.Name) and node.id in tops and isinstance(node.ctx, ast.Load):
+            found += [] if only_read(node, parent) else [("L15", line)]
+    return found
+
+
+def walked_at_once(node, parent):
+    if isinstance(parent, (ast.For, ast.comprehension)):
+        return parent.iter is node
+    if called(parent) in ("min", "max"):
+        return len(parent.args) == 1
+    if called(parent) == "join":
+        return isinstance(parent.func.value, ast.Constant)
+    return called(parent) in WALKERS and parent.args[:1] == [node] or called(parent) == "zip"
+
+
+def kept_in_place(node, parent):
+    """Error classes as bases and behind except, names of sorts in isinstance, what stands as a key."""
+    if node.id.endswith(("Error", "Exception", "Iteration")) or isinstance(parent, ast.keyword):
+        return True
+    return called(parent) == "isinstance" or isinstance(parent, ast.Tuple)
+
+
+def only_read(node, parent):
+    if isinstance(parent, (ast.Subscript, ast.Attribute)):
+        return parent.value is node and (isinstance(parent, ast.Subscript) or parent.attr in ("get", "items", "index"))
+    if isinstance(parent, (ast.For, ast.comprehension)):
+        return parent.iter is node
+    return isinstance(parent, ast.Compare) or called(parent) in ("len", "list", "dict", "sorted", "tuple")
+
+
+def name_faults_of_file(tree):
+    """Parameters and locals called like a class or an import of their file: L15."""
+    taken = {alias.name for node in tree.body if isinstance(node, ast.ImportFrom) for alias in node.names}
+    taken |= {node.name for node in tree.body if isinstance(node, ast.ClassDef)}
+    nodes = list(ast.walk(tree))
+    found = [("L15", node.lineno) for node in nodes if isinstance(node, ast.arg) and node.arg in taken]
+    return found + [("L15", node.lineno) for node in nodes
+                    if isinstance(node, ast.Name) and isinstance(node.ctx, ast.Store) and node.id in taken]
+
+
 def own_attributes(texts):
     """Methods and objects' values that the package itself has."""
     found = []
@@ -196,6 +269,23 @@ class TestLanguage(unittest.TestCase):
                     waiting += drawn[module]
             self.assertNotIn(start, seen)
 
+    def test_names_are_drawn_from_the_file_that_defines_them(self):
+        defined = {}
+        for path, text in self.texts.items():
+            tops = ast.parse(text).body
+            names = [node.name for node in tops if isinstance(node, (ast.FunctionDef, ast.ClassDef))]
+            names += [node.targets[0].id for node in tops if isinstance(node, ast.Assign)]
+            defined[self.module(path)] = names
+        for path, text in self.texts.items():
+            names = defined[self.module(path)]
+            self.assertEqual(len(names), len(set(names)), path)
+            for node in ast.parse(text).body:
+                if isinstance(node, ast.ImportFrom) and node.module != "__future__":
+                    for alias in node.names:
+                        self.assertIn(alias.name, defined[node.module], path)
+                        self.assertNotIn(alias.name, names, path)
+                        self.assertIsNone(alias.asname, path)
+
     def module(self, path):
         names = path.relative_to(PACKAGE.parent).with_suffix("").parts
         return ".".join(names[:-1] if names[-1] == "__init__" else names)
@@ -216,6 +306,13 @@ class TestLanguage(unittest.TestCase):
             "def f(a):\n    return a / 2": "L7", "def f(a):\n    return {b for b in a}": "L7",
             "def f(a):\n    a.sort()": "L25", "def f(a):\n    _b = a": "L12", "def f(a):\n    return a is a": "L20",
             "def f(a):\n    assert a": "L6", "def f(a):\n    return 2 ** a": "L27",
+            "def f(a):\n    b = zip(a, a)": "L23", "def f(a):\n    a.extend(zip(a, a))": "L23",
+            "def f(a):\n    return a.items()": "L23", "def f(a):\n    b = set(a)": "L24",
+            "def f(a):\n    return sorted(a, None)\ndef g(a):\n    return a(len)": "L22",
+            "def f(a):\n    return max(a, start=1)": "L22", "d = {1: 2}\ndef f(a):\n    return a(d)": "L15",
+            "d = [1]\ndef f(a):\n    d.append(a)": "L15", "d = {1: 2}\ndef f(a):\n    return d": "L15",
+            "from keptnest.errors import NoKind\ndef f(a):\n    NoKind = a": "L15",
+            "from keptnest.errors import NoKind\ndef f(NoKind):\n    return 1": "L15",
             "class A:\n    x = 1": "L5", "def f():\n" + "    pass\n" * 40: "L10", "x = '%'": "L27",
         }
         for text, rule in outside.items():

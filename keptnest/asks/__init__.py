@@ -1,0 +1,1 @@
+"""Questions, their kinds and their answers."""

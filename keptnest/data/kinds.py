@@ -1,0 +1,62 @@
+"""Kinds: which values are of them, and how they are written."""
+
+from keptnest.data.texts import listed
+from keptnest.data.values import unfolded
+
+
+def fields_of(row):
+    return [field for field, part in row[1]]
+
+
+def is_of(value, kind):
+    # Stacks in the place of calls within calls, here and below: what is told may lie deeper than calls may go.
+    waiting = [(value, kind)]
+    while waiting:
+        part, wanted = waiting.pop()
+        if part[0] != wanted[0]:
+            return False
+        if part[0] == "row":
+            if fields_of(part) != fields_of(wanted):
+                return False
+            waiting.extend([(ours[1], theirs[1]) for ours, theirs in zip(part[1], wanted[1])])
+        if part[0] == "bag":
+            waiting.extend([(row, wanted[1]) for row, count in part[1]])
+    return True
+
+
+def alike(one, other):
+    waiting = [(one, other)]
+    while waiting:
+        left, right = waiting.pop()
+        if left[0] != right[0]:
+            return False
+        if left[0] == "row":
+            if fields_of(left) != fields_of(right):
+                return False
+            waiting.extend([(ours[1], theirs[1]) for ours, theirs in zip(left[1], right[1])])
+        if left[0] == "bag":
+            waiting.append((left[1], right[1]))
+    return True
+
+
+def is_flat(kind):
+    waiting = [kind]
+    while waiting:
+        part = waiting.pop()
+        if part[0] == "bag":
+            return False
+        if part[0] == "row":
+            waiting.extend([inner for field, inner in part[1]])
+    return True
+
+
+def kind_shown(kind):
+    return "".join(unfolded(kind, shown_parts))
+
+
+def shown_parts(kind):
+    if kind[0] == "row":
+        return listed("<", [[field + ": ", part] for field, part in kind[1]], ">")
+    if kind[0] == "bag":
+        return ["{", kind[1], "}"]
+    return [kind[0]]
