@@ -134,3 +134,54 @@ def plain_degree(question, names):
         return plain_degree(rest[-1], names)
     degrees = [plain_degree(part, names) for part in parts_below(question)]
     return {"both": max, "for": sum}[word](degrees)
+
+
+def plain_put(question, names):
+    """The question with each changing table put as both of it and its change."""
+    word, *rest = question
+    if word == "table" and rest[0] in names:
+        return ("both", question, ("table", names[rest[0]]))
+    if word in ("num", "word", "var", "table", "none"):
+        return question
+    if word == "row":
+        return ("row", tuple((field, plain_put(part, names)) for field, part in rest[0]))
+    parts = parts_below(question)
+    return question[:len(question) - len(parts)] + tuple(plain_put(part, names) for part in parts)
+
+
+def plain_difference(question, names, kinds, stock):
+    """The difference of a bag question, as [17] tells it."""
+    word, *rest = question
+    none = ("none", plain_kind(question, kinds, stock)[1])
+
+    def touched(part):
+        return any(name in names for name in plain_tables(part))
+
+    def ask(part, more=()):
+        return plain_difference(part, names, {**kinds, **dict(more)}, stock)
+
+    def total(*parts):
+        left = [part for part in parts if part[0] != "none"]
+        if len(left) == 3:
+            return ("both", ("both", left[0], left[1]), left[2])
+        return ("both",) + tuple(left) if len(left) == 2 else (left + [none])[0]
+
+    def go(over, inner):
+        return none if "none" in (over[0], inner[0]) else ("for", rest[0], over, inner)
+    if not touched(question):
+        return none
+    if word == "table":
+        return ("table", names[rest[0]])
+    if word == "both":
+        return total(ask(rest[0]), ask(rest[1]))
+    if word in ("times", "when"):
+        inner = ask(rest[1])
+        return none if inner[0] == "none" else (word, rest[0], inner)
+    if word == "for":
+        more = {rest[0]: plain_kind(rest[1], kinds, stock)[1]}
+        first, second = ask(rest[1]), ask(rest[2], more)
+        return total(go(first, rest[2]), go(rest[1], second), go(first, second))
+    if word == "let" and not touched(rest[1]):
+        inner = ask(rest[2], {rest[0]: plain_kind(rest[1], kinds, stock)})
+        return none if inner[0] == "none" else ("let", rest[0], rest[1], inner)
+    return ("both", plain_put(question, names), ("times", -1, question))

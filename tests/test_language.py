@@ -301,7 +301,8 @@ class TestLanguage(unittest.TestCase):
     def test_what_is_outside_is_seen(self):
         outside = {
             "import os": "L3", "from os import path": "L2", "x = len([])": "L3", "x = {1: 0.5}": "L7",
-            "def f():\n    \"\"\"Words.\"\"\"": "L6", "def f(*a):\n    return 1": "L4", "def f(id):\n    return 1": "L15",
+            "def f():\n    \"\"\"Words.\"\"\"": "L6", "def f(*a):\n    return 1": "L4",
+            "def f(id):\n    return 1": "L15",
             "def f(a):\n    return type(a)": "L17", "def f(a):\n    return hash(a)": "L8",
             "def f(a):\n    return a / 2": "L7", "def f(a):\n    return {b for b in a}": "L7",
             "def f(a):\n    a.sort()": "L25", "def f(a):\n    _b = a": "L12", "def f(a):\n    return a is a": "L20",

@@ -9,8 +9,16 @@ def fields_of(row):
 
 
 def is_of(value, kind):
-    # Stacks in the place of calls within calls, here and below: what is told may lie deeper than calls may go.
-    waiting = [(value, kind)]
+    return fits(value, kind, lambda bag: [row for row, count in bag[1]])
+
+
+def alike(one, other):
+    return fits(one, other, lambda bag: [bag[1]])
+
+
+def fits(whole, kind, rows_of):
+    # A stack in the place of calls within calls, here and below: what is told may lie deeper than calls may go.
+    waiting = [(whole, kind)]
     while waiting:
         part, wanted = waiting.pop()
         if part[0] != wanted[0]:
@@ -20,22 +28,7 @@ def is_of(value, kind):
                 return False
             waiting.extend([(ours[1], theirs[1]) for ours, theirs in zip(part[1], wanted[1])])
         if part[0] == "bag":
-            waiting.extend([(row, wanted[1]) for row, count in part[1]])
-    return True
-
-
-def alike(one, other):
-    waiting = [(one, other)]
-    while waiting:
-        left, right = waiting.pop()
-        if left[0] != right[0]:
-            return False
-        if left[0] == "row":
-            if fields_of(left) != fields_of(right):
-                return False
-            waiting.extend([(ours[1], theirs[1]) for ours, theirs in zip(left[1], right[1])])
-        if left[0] == "bag":
-            waiting.append((left[1], right[1]))
+            waiting.extend([(row, wanted[1]) for row in rows_of(part)])
     return True
 
 

@@ -20,6 +20,23 @@ def is_name(text):
     return 1 <= len(text) <= LONGEST_NAME and only_of(text, LETTERS) and text not in TAKEN_WORDS
 
 
+def new_name(taken):
+    name = "a"
+    while name in taken or not is_name(name):
+        name = text_behind(name)
+    return name
+
+
+def text_behind(text):
+    # Shorter ones are ahead, then it goes by letters.
+    if text == "":
+        return "a"
+    last = LETTERS.index(text[-1]) + 1
+    if last == len(LETTERS):
+        return text_behind(text[:-1]) + "a"
+    return text[:-1] + LETTERS[last]
+
+
 def number_of(text):
     figures = text[1:] if text.startswith("-") else text
     if figures == "" or not only_of(figures, FIGURES):

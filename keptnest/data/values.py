@@ -1,4 +1,6 @@
-"""Values: their order, and bags made, added and multiplied."""
+"""Values: what they are, their order, and bags made, added and multiplied."""
+
+from keptnest.data.signs import is_name
 
 RANKS = {"num": 0, "word": 1, "row": 2, "bag": 3}
 ENDS = 0
@@ -56,3 +58,54 @@ def times(bag, k):
     if k == 0:
         return ("bag", ())
     return ("bag", tuple([(value, count * k) for value, count in bag[1]]))
+
+
+def is_value(thing):
+    found = []
+    waiting = [thing]
+    while waiting:
+        part = waiting.pop()
+        if not has_form(part):
+            return False
+        if part[0] == "row":
+            waiting.extend([value for field, value in part[1]])
+        if part[0] == "bag":
+            waiting.extend([value for value, count in part[1]])
+            found.append(part)
+    # Only now, as an order is told of values alone.
+    return all([rises([order_key(value) for value, count in bag[1]]) for bag in found])
+
+
+def has_form(thing):
+    if not is_pair(thing):
+        return False
+    if thing[0] == "num":
+        return is_whole(thing[1])
+    if thing[0] == "word":
+        return is_written_name(thing[1])
+    if thing[0] not in ("row", "bag") or not has_pairs(thing[1]):
+        return False
+    if thing[0] == "bag":
+        return all([is_whole(count) and count != 0 for value, count in thing[1]])
+    fields = [field for field, value in thing[1]]
+    return all([is_written_name(field) for field in fields]) and rises(fields)
+
+
+def has_pairs(thing):
+    return isinstance(thing, tuple) and all([is_pair(part) for part in thing])
+
+
+def is_pair(thing):
+    return isinstance(thing, tuple) and len(thing) == 2
+
+
+def is_whole(thing):
+    return isinstance(thing, int) and not isinstance(thing, bool)
+
+
+def is_written_name(thing):
+    return isinstance(thing, str) and is_name(thing)
+
+
+def rises(keys):
+    return all([one < other for one, other in zip(keys, keys[1:])])

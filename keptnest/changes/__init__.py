@@ -1,0 +1,1 @@
+"""Differences of questions, and answers brought on by them."""
