@@ -32,6 +32,7 @@ STOCK = {
     "deep": row_of(("k", NUM), ("of", bag_kind(row_of(("a", NUM), ("b", WORD))))),
     "bags": bag_kind(NUM),
 }
+PLAIN_STOCK = {name: STOCK[name] for name in ("s", "t", "n", "m", "w")}
 ASKED_KINDS = (
     NUM, WORD, row_of(), STOCK["s"], row_of(("c", NUM)), STOCK["deep"], bag_kind(NUM), bag_kind(bag_kind(NUM)),
     row_of(("in", row_of(("a", NUM))), ("of", bag_kind(WORD))),
@@ -135,13 +136,27 @@ def size(question):
     return 1 + sum(size(part) for part in parts_below(question))
 
 
-def drawn(seed, many, kinds=ASKED_KINDS, most=120):
-    """Questions of bags of these kinds, over STOCK, without free variables and of a size that is soon answered."""
+def drawn(seed, many, kinds=ASKED_KINDS, most=120, stock=STOCK):
+    """Questions of bags of these kinds, over the stock, without free variables and of a size that is soon answered."""
     maker = Maker(seed)
     found = []
     while len(found) < many:
         kind = bag_kind(maker.chance.choice(kinds))
-        question = maker.question(kind, {}, STOCK, maker.chance.randrange(2, 7))
+        question = maker.question(kind, {}, stock, maker.chance.randrange(2, 7))
         if 3 <= size(question) <= most:
-            found.append((question, kind, maker.store(STOCK), maker.change(STOCK)))
+            found.append((question, kind, maker.store(stock), maker.change(stock)))
+    return found
+
+
+def drawn_open(seed, many, most=120):
+    """Questions of any kind, with free variables: tuples (question, kind, kinds, values, store)."""
+    maker = Maker(seed)
+    found = []
+    while len(found) < many:
+        kinds = {name: maker.chance.choice(ASKED_KINDS) for name in NAMES}
+        kind = maker.chance.choice(ASKED_KINDS + tuple(bag_kind(rows) for rows in ASKED_KINDS) * 3)
+        question = maker.question(kind, kinds, STOCK, maker.chance.randrange(2, 7))
+        if 3 <= size(question) <= most:
+            values = {name: maker.value(of) for name, of in kinds.items()}
+            found.append((question, kind, kinds, values, maker.store(STOCK)))
     return found

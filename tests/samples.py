@@ -6,6 +6,21 @@ TAKEN_WORDS = (
 
 GREAT = 987654321098765432109876543210
 
+# A question with every word in it.
+ALL_WORDS = (
+    "let q num 7 for r both table n times -2 none num when and or same word a word b under var r num 3 "
+    "not same at f row 2 f num 1 g var q mul var r num 2 one add var r var q"
+)
+
+# Questions in which a for goes over another thing than a table or none.
+NOT_FLAT = (
+    "for x table deep for y at of var x one var y", "for x table bags for y var x one var y",
+    "both table n for x table bags for y var x one var y", "both for x table bags for y var x one var y table n",
+    "for x table bags for y var x for z none num one num 1", "times 2 for x table bags for y var x one num 1",
+    "for x table n for y at of var x when same num 1 num 2 one num 1", "for x table bags for y var x none num",
+    "for x at of var y one var x", "for x var y one var x", "let z num 1 for x table bags for y var x one num 1",
+)
+
 
 def num(k):
     return ("num", k)

@@ -30,14 +30,14 @@ CLAIMS = {
     "or": ("claim", "claim"),
     "not": ("claim",),
 }
+# Words that have something else ahead of, or in the place of, the questions and claims below them.
+HAVE_MORE = ("num", "word", "var", "table", "none", "at", "times", "for", "let")
 
 
 def under(question):
     if question[0] == "row":
         return tuple([part for field, part in question[1]])
-    if question[0] == "none":
-        return ()
-    return tuple([part for part in question if isinstance(part, tuple)])
+    return question[2:] if question[0] in HAVE_MORE else question[1:]
 
 
 def with_under(question, parts):

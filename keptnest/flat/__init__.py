@@ -1,0 +1,1 @@
+"""Questions led to flat ones, and their answers stitched together."""

@@ -1,0 +1,1 @@
+"""Questions turned by rules into others with the same answers."""

@@ -1,0 +1,242 @@
+"""Turnings: a question changed at a path by a rule, so that its answers stay."""
+
+from keptnest.asks.questions import bound_in, free, under, with_under
+from keptnest.asks.walks import Walk
+from keptnest.errors import NoTurning
+from keptnest.turns.places import Place, Spare, names_in
+
+CLAIM_WORDS = ("same", "under", "and", "or", "not")
+
+
+def at_path(question, path):
+    place = Place(question)
+    return place.knot() if place.go(path) else None
+
+
+def turned(question, path, rule):
+    return led(question, ((path, rule),))
+
+
+def led(question, chain):
+    place = Place(question)
+    for path, rule in chain:
+        if not place.go(path) or place.knot()[0] in CLAIM_WORDS:
+            raise NoTurning("the path leads to no question")
+        if not turns(place, rule):
+            raise NoTurning("the rule does not fit")
+    return place.whole()
+
+
+def turns(place, rule):
+    knot = place.knot()
+    if rule not in RULES or not has_shape(knot, rule):
+        return False
+    told = RULES[rule][3](knot, Spare(place, {}))
+    if told is None:
+        return False
+    place.put(told)
+    return True
+
+
+def has_shape(knot, rule):
+    word, which, inner, turning = RULES[rule]
+    return knot[0] == word and (inner is None or under(knot)[which][0] == inner)
+
+
+def put_in(question, name, other):
+    taken = names_in(other)
+    taken[name] = True
+    return put(question, name, other, Spare(Place(question), taken))
+
+
+def put(question, name, other, spare):
+    walk = Walk()
+    walk.later(begin, question, ({name: other}, (name, free(other), spare)))
+    return walk.run()
+
+
+def begin(walk, question, around):
+    puts, bringing = around
+    if not puts:
+        walk.tell(question)
+    elif question[0] == "var":
+        walk.tell(puts.get(question[1], question))
+    elif question[0] in ("for", "let"):
+        begin_binding(walk, question, puts, bringing)
+    else:
+        walk.later(finish, question, around)
+        for part in reversed(under(question)):
+            walk.later(begin, part, around)
+
+
+def begin_binding(walk, question, puts, bringing):
+    # Renamed ahead of all that lies within, as new names are given in the order in which bindings are written.
+    word, bound, first, inner = question
+    name, brought, spare = bringing
+    within = dict([(other, meaning) for other, meaning in puts.items() if other != bound])
+    if bound in brought and name in within and is_free(name, inner):
+        fresh = spare.fresh()
+        within[bound] = ("var", fresh)
+        bound = fresh
+    walk.later(finish, (word, bound, first, inner), bringing)
+    walk.later(begin, inner, (within, bringing))
+    walk.later(begin, first, (puts, bringing))
+
+
+def is_free(name, question):
+    waiting = [question]
+    while waiting:
+        knot = waiting.pop()
+        if knot == ("var", name):
+            return True
+        if name in bound_in(knot, 1):
+            waiting.append(knot[2])
+        else:
+            waiting.extend(under(knot))
+    return False
+
+
+def finish(walk, question, around):
+    walk.tell(with_under(question, walk.take(len(under(question)))))
+
+
+def renamed(question, name, new, spare):
+    return put(question, name, ("var", new), spare)
+
+
+def at_row(knot, spare):
+    return dict(knot[2][1]).get(knot[1])
+
+
+def let_in(knot, spare):
+    word, name, other, inner = knot
+    return put(inner, name, other, spare)
+
+
+def for_one(knot, spare):
+    word, name, one, inner = knot
+    return ("let", name, one[1], inner)
+
+
+def for_for(knot, spare):
+    word, outer, (same, name, over, middle), inner = knot
+    if name != outer and is_free(name, inner):
+        fresh = spare.fresh()
+        middle = renamed(middle, name, fresh, spare)
+        name = fresh
+    return ("for", name, over, ("for", outer, middle, inner))
+
+
+def for_both(knot, spare):
+    word, name, (both, one, other), inner = knot
+    return ("both", ("for", name, one, inner), ("for", name, other, inner))
+
+
+def for_times(knot, spare):
+    word, name, (times, k, over), inner = knot
+    return ("times", k, ("for", name, over, inner))
+
+
+def for_when(knot, spare):
+    word, name, (when, claim, over), inner = knot
+    return ("when", claim, ("for", name, over, inner))
+
+
+def both_in(knot, spare):
+    word, name, over, (both, one, other) = knot
+    return ("both", ("for", name, over, one), ("for", name, over, other))
+
+
+def times_in(knot, spare):
+    word, name, over, (times, k, inner) = knot
+    return ("times", k, ("for", name, over, inner))
+
+
+def when_both(knot, spare):
+    word, claim, (both, one, other) = knot
+    return ("both", ("when", claim, one), ("when", claim, other))
+
+
+def when_times(knot, spare):
+    word, claim, (times, k, inner) = knot
+    return ("times", k, ("when", claim, inner))
+
+
+def when_for(knot, spare):
+    word, claim, (same, name, over, inner) = knot
+    if is_free(name, claim):
+        fresh = spare.fresh()
+        inner = renamed(inner, name, fresh, spare)
+        name = fresh
+    return ("for", name, over, ("when", claim, inner))
+
+
+def when_when(knot, spare):
+    word, claim, (when, other, inner) = knot
+    return ("when", ("and", claim, other), inner)
+
+
+def times_times(knot, spare):
+    word, k, (times, other, inner) = knot
+    return ("times", k * other, inner)
+
+
+def times_both(knot, spare):
+    word, k, (both, one, other) = knot
+    return ("both", ("times", k, one), ("times", k, other))
+
+
+def swap_both(knot, spare):
+    return ("both", knot[2], knot[1])
+
+
+def group_both(knot, spare):
+    word, (both, one, other), last = knot
+    return ("both", one, ("both", other, last))
+
+
+def times_one(knot, spare):
+    return knot[2] if knot[1] == 1 else None
+
+
+def un_for(knot, spare):
+    word, name, over, (one, inner) = knot
+    return over if inner == ("var", name) else None
+
+
+def swap_for(knot, spare):
+    word, name, over, (same, other, more, inner) = knot
+    if is_free(name, more):
+        return None
+    if is_free(other, over):
+        fresh = spare.fresh()
+        inner = renamed(inner, other, fresh, spare)
+        other = fresh
+    # Only where something in it is the inner one's: else nothing is brought under the outer one.
+    if name == other and is_free(other, inner):
+        name = spare.fresh()
+    return ("for", other, more, ("for", name, over, inner))
+
+
+RULES = {
+    "atrow": ("at", 0, "row", at_row),
+    "letin": ("let", 0, None, let_in),
+    "forone": ("for", 0, "one", for_one),
+    "forfor": ("for", 0, "for", for_for),
+    "forboth": ("for", 0, "both", for_both),
+    "fortimes": ("for", 0, "times", for_times),
+    "forwhen": ("for", 0, "when", for_when),
+    "bothin": ("for", 1, "both", both_in),
+    "timesin": ("for", 1, "times", times_in),
+    "whenboth": ("when", 1, "both", when_both),
+    "whentimes": ("when", 1, "times", when_times),
+    "whenfor": ("when", 1, "for", when_for),
+    "whenwhen": ("when", 1, "when", when_when),
+    "timestimes": ("times", 0, "times", times_times),
+    "timesboth": ("times", 0, "both", times_both),
+    "swapboth": ("both", 0, None, swap_both),
+    "groupboth": ("both", 0, "both", group_both),
+    "timesone": ("times", 0, None, times_one),
+    "unfor": ("for", 1, "one", un_for),
+    "swapfor": ("for", 1, "for", swap_for),
+}
