@@ -28,7 +28,8 @@ BRANCHES = (
     # Parts that end in a table: one name for all, that stands nowhere.
     ("table n", [(1, (("a", "n"),), (), "var a")]), ("table a", [(1, (("b", "a"),), (), "var b")]),
     ("both table n table m", [(1, (("a", "n"),), (), "var a"), (1, (("a", "m"),), (), "var a")]),
-    ("both table n for a table b table m", [(1, (("c", "n"),), (), "var c"), (1, (("a", "b"), ("c", "m")), (), "var c")]),
+    ("both table n for a table b table m", [(1, (("c", "n"),), (), "var c"), (1, (("a", "b"), ("c", "m")), (),
+                                                                              "var c")]),
     ("times 2 for x table n when same var x num 1 table m",
      [(2, (("x", "n"), ("a", "m")), ("same var x num 1",), "var a")]),
     ("both table n one row 1 a word b", [(1, (("c", "n"),), (), "var c"), (1, (), (), "row 1 a word b")]),
@@ -43,7 +44,8 @@ BRANCHES = (
     ("both none num both one num 1 times 0 one num 2", [(1, (), (), "num 1")]),
     ("both for x none num one var x for x table n one var x", [(1, (("x", "n"),), (), "var x")]),
     # Claims that and joins, on whichever side, in order; those within or and not are one claim.
-    ("when and same num 1 num 1 same num 2 num 2 one num 3", [(1, (), ("same num 1 num 1", "same num 2 num 2"), "num 3")]),
+    ("when and same num 1 num 1 same num 2 num 2 one num 3", [(1, (), ("same num 1 num 1", "same num 2 num 2"),
+                                                               "num 3")]),
     ("when and and same num 1 num 1 same num 2 num 2 same num 3 num 3 one num 3",
      [(1, (), ("same num 1 num 1", "same num 2 num 2", "same num 3 num 3"), "num 3")]),
     ("when and same num 1 num 1 and same num 2 num 2 same num 3 num 3 one num 3",
@@ -61,7 +63,8 @@ BRANCHES = (
     ("for x table n for x table n when same var x num 1 one var x",
      [(1, (("x", "n"), ("x", "n")), ("same var x num 1",), "var x")]),
     # What is shortened here.
-    ("for x both table n times 2 table m one var x", [(1, (("x", "n"),), (), "var x"), (2, (("x", "m"),), (), "var x")]),
+    ("for x both table n times 2 table m one var x", [(1, (("x", "n"),), (), "var x"), (2, (("x", "m"),), (),
+                                                                                        "var x")]),
     ("let q table n for x var q one var x", [(1, (("x", "n"),), (), "var x")]),
     ("for y for x table n one row 2 a var x b num 1 one at a var y", [(1, (("x", "n"),), (), "var x")]),
     ("for x one num 1 for y table n one add var x var y", [(1, (("y", "n"),), (), "add num 1 var y")]),

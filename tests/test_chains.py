@@ -51,7 +51,8 @@ class TestChains(unittest.TestCase):
 
     def test_names_of_each_step_are_those_of_the_question_there(self):
         # The name that the first step gives is taken for the second, and the one that the first drops is not.
-        question = read_question("both let z word a num 1 when same num 1 var x when same num 2 var x for x table n one var x")
+        question = read_question("both let z word a num 1 when same num 1 var x when same num 2 var x "
+                                 "for x table n one var x")
         told = led(question, (((0,), "letin"), ((1, 1), "whenfor"), ((1,), "whenfor")))
         self.assertEqual(question_shown(told),
                          "both num 1 for a table n when same num 1 var x when same num 2 var x one var a")
@@ -60,6 +61,15 @@ class TestChains(unittest.TestCase):
         told = led(question, (((0,), "whenfor"), ((1,), "whenfor")))
         self.assertEqual(question_shown(told), "both for a table n when same num 1 var x one var a "
                                                "for b table m when same num 1 var x one var b")
+
+    def test_names_at_each_depth_are_taken(self):
+        ahead = "both table b both table a both table c times 2 "
+        told = turned(read_question(ahead + "when same num 1 var x for x table n one var x"), (1, 1, 1, 0), "whenfor")
+        self.assertEqual(question_shown(told), ahead + "for d table n when same num 1 var x one var d")
+        # The first step's new name stands at the very place of the second.
+        question = read_question("times 2 let x var y for y var z for z table m one add var x var y")
+        told = led(question, (((0,), "letin"), ((0,), "swapfor")))
+        self.assertEqual(question_shown(told), "times 2 for b table m for a var z one add var y var a")
 
     def test_drawn_rows_of_turnings(self):
         steps = 0

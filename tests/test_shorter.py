@@ -15,7 +15,7 @@ LETTERS = "abcdefghijklmnopqrstuvwxyz"
 BY_HAND = (
     ("num 1", "num 1"), ("word a", "word a"), ("var x", "var x"), ("table n", "table n"), ("none num", "none num"),
     ("row 0", "row 0"), ("one num 1", "one num 1"), ("at f var x", "at f var x"), ("both table n table m",
-                                                                                  "both table n table m"),
+                                                                                   "both table n table m"),
     ("at f row 2 e num 1 f num 2", "num 2"), ("at f at g row 1 g row 1 f num 2", "num 2"),
     ("at f row 1 g num 1", "at f row 1 g num 1"), ("let x num 1 add var x var x", "add num 1 num 1"),
     ("let x row 1 f num 1 at f var x", "num 1"), ("let x table n num 1", "num 1"),
@@ -31,7 +31,8 @@ BY_HAND = (
     ("when same num 1 num 2 times 2 table n", "times 2 when same num 1 num 2 table n"),
     ("when same num 1 num 2 when same num 3 num 4 table n", "when and same num 1 num 2 same num 3 num 4 table n"),
     ("when same num 1 var x for x table n one var x", "for a table n when same num 1 var x one var a"),
-    ("times 2 both table n times 3 table m", "both times 2 table n times 6 table m"), ("times 1 table n", "times 1 table n"),
+    ("times 2 both table n times 3 table m", "both times 2 table n times 6 table m"),
+    ("times 1 table n", "times 1 table n"),
     ("times 1 times 1 table n", "times 1 table n"), ("times 0 table n", "times 0 table n"),
     ("for x none num both one var x one num 2", "both for x none num one var x for x none num one num 2"),
     ("let x var y for y table n one add var x var y", "for a table n one add var y var a"),
@@ -64,7 +65,8 @@ class TestShortened(unittest.TestCase):
 
     def test_each_short_rule_alone(self):
         fits = (
-            "at f row 1 f num 1", "let x num 1 num 2", "for x one num 1 one var x", "for y for x table n table m table n",
+            "at f row 1 f num 1", "let x num 1 num 2", "for x one num 1 one var x",
+            "for y for x table n table m table n",
             "for x both table n table m table n", "for x times 2 table n table n",
             "for x when same num 1 num 1 table n table n", "for x table n both table n table m",
             "for x table n times 2 table n", "when same num 1 num 1 both table n table m",
@@ -76,7 +78,8 @@ class TestShortened(unittest.TestCase):
             question = read_question(text)
             self.assertIsNotNone(plain_rule(rule, question, first_names(question)))
             for first, last in (("", ""), ("one ", ""), ("one row 2 a num 1 b ", ""), ("both table n ", ""),
-                                ("one at f add num 1 ", ""), ("when not and same num 1 num 1 same num 1 mul num 1 ", " table n"),
+                                ("one at f add num 1 ", ""), ("when not and same num 1 num 1 same num 1 mul num 1 ",
+                                                              " table n"),
                                 ("for x table n one ", ""), ("one for x table n one ", "")):
                 whole = read_question(first + text + last)
                 told, chain = self.short(whole)
@@ -158,7 +161,8 @@ class TestBounds(unittest.TestCase):
                 seen += 1
 
     def test_twenty_within_one_another(self):
-        for wrap in (lambda q: ("times", 1, q), lambda q: ("both", q, ("table", "n")), lambda q: ("for", "x", q, ("one", ("var", "x"))),
+        for wrap in (lambda q: ("times", 1, q), lambda q: ("both", q, ("table", "n")),
+                     lambda q: ("for", "x", q, ("one", ("var", "x"))),
                      lambda q: ("for", "x", ("table", "n"), q), lambda q: ("let", "x", q, ("var", "x")),
                      lambda q: ("let", "x", ("table", "n"), q), lambda q: ("for", "x", ("one", ("num", 1)), q),
                      lambda q: ("when", ("same", ("num", 1), ("num", 1)), q)):
@@ -185,7 +189,8 @@ class TestBounds(unittest.TestCase):
             self.assertEqual(question_shown(self.short(read_question(text))), wanted)
 
     def test_lets_that_double(self):
-        text = "let va one num 1 " + " ".join(f"let v{b} both var v{a} var v{a}" for a, b in zip("abcdefghi", "bcdefghij"))
+        text = "let va one num 1 " + " ".join(f"let v{b} both var v{a} var v{a}" for a,
+                                              b in zip("abcdefghi", "bcdefghij"))
         told = self.short(read_question(text + " var vj"))
         self.assertEqual(sorted(question_shown(told).split()), sorted(("both " * 511 + "one num 1 " * 512).split()))
         self.assertEqual(answer(told, {}, {}), bag((num(1), 512)))

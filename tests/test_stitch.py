@@ -54,8 +54,8 @@ FLAT = (
     ("one none num", {(0,): "times 1 one row 2 key row 0 val row 0"}),
     ("one row 2 a none word b times 0 table n", {(0,): "times 1 one row 2 key row 0 val row 2 a row 0 b row 0"}),
     # Rows within rows, several bags, several branches; the claims and numbers around go along.
-    ("times 2 for x table n when same var x num 1 one row 3 b row 2 c both table m one num 7 d var x e times -1 one var x "
-     "f row 0", {
+    ("times 2 for x table n when same var x num 1 one row 3 b row 2 c both table m one num 7 d var x "
+     "e times -1 one var x f row 0", {
         (0,): "for aa table n when same var aa num 1 times 2 "
               "one row 2 key row 1 aa var aa val row 3 b row 2 c row 0 d var aa e row 0 f row 0",
         (0, ("b", "c"), 0): "for aa table n for ab table m when same var aa num 1 times 2 "

@@ -40,7 +40,8 @@ BY_RULE = {
         ("for y for x table n one var y one var y", "for x table n for y one var y one var y"),
         ("for y for x table n for a table m one add var x var a one var x",
          "for b table n for y for a table m one add var b var a one var x"),
-        ("for y for x table n for x table m one var x one var x", "for a table n for y for x table m one var x one var x"),
+        ("for y for x table n for x table m one var x one var x",
+         "for a table n for y for x table m one var x one var x"),
         ("for y for x table n one var x for x table m one var x",
          "for x table n for y one var x for x table m one var x"),
     ),
@@ -125,7 +126,8 @@ FITS_NOT = {
     "atrow": ("at f var x", "at f row 1 g num 1", "at f row 0", "row 1 f num 1", "at f let x num 1 row 1 f num 1",
               "at f at g row 1 g row 1 f num 1", "num 1"),
     "letin": ("for x one num 1 one var x", "num 1", "one let x num 1 num 2", "var x"),
-    "forone": ("for x table n one var x", "let x one num 1 var x", "for x both one num 1 one num 2 one num 1", "one num 1"),
+    "forone": ("for x table n one var x", "let x one num 1 var x", "for x both one num 1 one num 2 one num 1",
+               "one num 1"),
     "forfor": ("for x table n for y table m one num 1", "for x let y num 1 table n table m", "table n"),
     "forboth": ("for x table n both table n table m", "both for x table n table m table n", "for x table n table m"),
     "fortimes": ("for x table n times 2 table n", "times 2 for x table n table n", "for x table n table m"),
@@ -139,9 +141,11 @@ FITS_NOT = {
     "timestimes": ("times 2 table n", "times 2 both table n table m", "times 1 when same num 1 num 1 times 1 table n"),
     "timesboth": ("both times 2 table n times 2 table m", "times 2 table n", "times 2 times 2 table n"),
     "swapboth": ("times 2 both table n table m", "add num 1 num 2", "table n"),
-    "groupboth": ("both table n both table m table n", "both table n table m", "both times 1 both table n table n table n"),
+    "groupboth": ("both table n both table m table n", "both table n table m",
+                  "both times 1 both table n table n table n"),
     "timesone": ("times 2 table n", "times 0 table n", "times -1 table n", "table n", "one num 1"),
-    "unfor": ("for x table n one var y", "for x table n one at a var x", "for x table n var x", "for x table n one num 1",
+    "unfor": ("for x table n one var y", "for x table n one at a var x", "for x table n var x",
+              "for x table n one num 1",
               "let x table n one var x", "for x table n times 1 one var x"),
     "swapfor": ("for x table n for y var x one num 1", "for x table n for x var x one var x", "for x table n one var x",
                 "for x table n for y for z var x one var z one num 1", "for x table n let y table n one num 1",
@@ -155,7 +159,8 @@ NO_RULES = (
 AROUND = (
     ("", "", ()), ("times 7 ", "", (0,)), ("both none num ", "", (1,)), ("one row 2 f num 1 g ", "", (0, 1)),
     ("let zz num 1 ", "", (1,)), ("for zz table o ", "", (1,)), ("let zz ", " one num 1", (0,)),
-    ("when not same num 1 at k row 1 k ", " table o", (0, 0, 1, 0, 0)), ("at k row 2 j num 1 k one one ", "", (0, 1, 0, 0)),
+    ("when not same num 1 at k row 1 k ", " table o", (0, 0, 1, 0, 0)),
+    ("at k row 2 j num 1 k one one ", "", (0, 1, 0, 0)),
 )
 
 

@@ -24,6 +24,14 @@ def names_of_changes(change, taken):
     return names
 
 
+def answer_of_difference(question, stock, store, change):
+    names = names_of_changes(change, list(stock) + tables(question))
+    told = difference(question, names, {}, stock)
+    put_in = dict(store)
+    put_in.update(dict([(names[table], bag) for table, bag in change.items()]))
+    return answer(told, {}, put_in)
+
+
 class View:
     def __init__(self, question, stock, store):
         self.question = question
@@ -39,14 +47,7 @@ class View:
 
     def change(self, change):
         refuse_unfit(change, self.stock)
-        more = self.more_by(change)
+        more = answer_of_difference(self.question, self.stock, self.rows, change)
         self.kept = added(self.kept, more)
         self.rows = changed(self.rows, change)
         return more
-
-    def more_by(self, change):
-        names = names_of_changes(change, list(self.stock) + tables(self.question))
-        told = difference(self.question, names, {}, self.stock)
-        put_in = dict(self.rows)
-        put_in.update(dict([(names[table], bag) for table, bag in change.items()]))
-        return answer(told, {}, put_in)

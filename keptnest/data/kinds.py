@@ -1,7 +1,8 @@
-"""Kinds: which values are of them, and how they are written."""
+"""Kinds: which values are of them, and how they are written and read."""
 
-from keptnest.data.texts import listed
-from keptnest.data.values import unfolded
+from keptnest.data.signs import Reader
+from keptnest.data.texts import DEEPEST, listed
+from keptnest.data.values import rises, unfolded
 
 
 def fields_of(row):
@@ -53,3 +54,39 @@ def shown_parts(kind):
     if kind[0] == "bag":
         return ["{", kind[1], "}"]
     return [kind[0]]
+
+
+def kind_read(text):
+    reader = Reader(text)
+    kind = read_kind(reader, 1)
+    if not reader.at_end():
+        reader.refuse("the kind ends")
+    return kind
+
+
+def read_kind(reader, depth):
+    if depth > DEEPEST:
+        reader.refuse("one knot too many within a kind begins")
+    if reader.takes("<"):
+        return read_row_kind(reader, depth)
+    if reader.takes("{"):
+        inner = read_kind(reader, depth + 1)
+        reader.needs("}")
+        return ("bag", inner)
+    if reader.takes("num"):
+        return ("num",)
+    reader.needs("word")
+    return ("word",)
+
+
+def read_row_kind(reader, depth):
+    parts = reader.parts(">", lambda: read_field_kind(reader, depth + 1))
+    if not rises([field for field, part in parts]):
+        reader.refuse("a row whose fields do not rise ends")
+    return ("row", tuple(parts))
+
+
+def read_field_kind(reader, depth):
+    field = reader.name()
+    reader.needs(": ")
+    return (field, read_kind(reader, depth))

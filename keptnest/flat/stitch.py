@@ -15,15 +15,14 @@ EMPTY_BAG = ("bag", ())
 
 class Limb:
     # A branch together with all that stands around it.
-    def __init__(self, address, factor, gens, claims, meanings):
+    def __init__(self, address, factor, gens, claims, meanings, row):
         self.address = address
         self.factor = factor
         self.gens = gens
         self.claims = claims
         self.meanings = meanings
-        self.many_around = 0
-        self.row = EMPTY_ROW
-        self.bags = []
+        self.row = row
+        self.bags = bags_in(row)
 
 
 def flat(question):
@@ -32,7 +31,7 @@ def flat(question):
 
 def limbs_of(question):
     found = []
-    waiting = [(shortened(question)[0], Limb((), 1, [], [], {}), ())]
+    waiting = [(shortened(question)[0], Limb((), 1, [], [], {}, EMPTY_ROW), ())]
     while waiting:
         bag, around, path = waiting.pop()
         for number, branch in enumerate(branches_of_short(bag)):
@@ -51,11 +50,7 @@ def grown(around, path, branch):
         meanings[name] = gen_name(all_gens)
         all_gens.append((meanings[name], table))
     all_claims = around.claims + [renamed(claim, meanings) for claim in claims]
-    limb = Limb(around.address + path, around.factor * k, all_gens, all_claims, meanings)
-    limb.many_around = len(around.gens)
-    limb.row = row
-    limb.bags = bags_in(row)
-    return limb
+    return Limb(around.address + path, around.factor * k, all_gens, all_claims, meanings, row)
 
 
 def gen_name(gens):
@@ -108,26 +103,24 @@ def all_of(claims):
 
 def stitched(question, answers):
     limbs = limbs_of(question)
+    many_gens = dict([(limb.address, len(limb.gens)) for limb in limbs])
     built = {}
     for limb in reversed(limbs):
         # Those below a limb have longer addresses that begin with its own, and so are built ahead of it.
-        built[limb.address] = built_rows(limb, answers.get(limb.address, EMPTY_BAG), built)
-    pairs = []
-    for limb in limbs:
-        if len(limb.address) == 1:
-            pairs.extend(built[limb.address].get((), []))
-    return bag_of(pairs)
+        rows = answers.get(limb.address, EMPTY_BAG)[1]
+        built[limb.address] = built_rows(limb, rows, many_gens.get(limb.address[:-2], 0), built)
+    return bag_of(pairs_below((), (), built))
 
 
-def built_rows(limb, bag, built):
+def built_rows(limb, rows, many_around, built):
     # Told by the key of the row around, to be found from there.
     found = {}
-    for row, count in bag[1]:
+    for row, count in rows:
         key, val = [part for field, part in row[1]]
         for fields, inner in limb.bags:
             pairs = pairs_below(limb.address + (fields,), key[1], built)
             val = with_bag(val, fields, bag_of([(value, many // count) for value, many in pairs]))
-        found.setdefault(key[1][:limb.many_around], []).append((val, count))
+        found.setdefault(key[1][:many_around], []).append((val, count))
     return found
 
 

@@ -53,7 +53,8 @@ class Place:
 
     def names(self):
         # What stands around the knot is gathered once for all that is done at and below it, as it stays the while.
-        for level in range(len(self.around), len(self.path)):
+        while len(self.around) < len(self.path):
+            level = len(self.around)
             names = dict(self.around[-1]) if self.around else {}
             names.update(names_in(with_part(self.line[level], self.path[level], ())))
             self.around.append(names)

@@ -5,8 +5,6 @@ from keptnest.asks.walks import Walk
 from keptnest.errors import NoTurning
 from keptnest.turns.places import Place, Spare, names_in
 
-CLAIM_WORDS = ("same", "under", "and", "or", "not")
-
 
 def at_path(question, path):
     place = Place(question)
@@ -20,10 +18,9 @@ def turned(question, path, rule):
 def led(question, chain):
     place = Place(question)
     for path, rule in chain:
-        if not place.go(path) or place.knot()[0] in CLAIM_WORDS:
-            raise NoTurning("the path leads to no question")
-        if not turns(place, rule):
-            raise NoTurning("the rule does not fit")
+        # No rule fits a claim.
+        if not place.go(path) or not turns(place, rule):
+            raise NoTurning("the path leads to no question that the rule fits")
     return place.whole()
 
 

@@ -1,0 +1,1 @@
+"""Branches answered by plans, and counts told as sums of products."""
