@@ -2,7 +2,7 @@
 
 import random
 
-from samples import bag, num, word
+from samples import num, word
 
 NUM, WORD = ("num",), ("word",)
 NAMES = "a b c x y z".split()

@@ -7,7 +7,7 @@ from keptnest.changes.differences import changed, difference
 from keptnest.errors import NoDifference
 from makers import NUM, STOCK, WORD, bag_kind, drawn, row_of
 from plainly import plain_degree, plain_even, plain_sum
-from samples import bag, nested, num
+from samples import nested, num
 
 TABLES = {"n": NUM, "m": NUM, "t": row_of(("a", NUM), ("b", WORD)), "h": bag_kind(NUM)}
 

@@ -8,7 +8,7 @@ from keptnest.data.texts import read
 from keptnest.errors import NoDifference
 from makers import ASKED_KINDS, NUM, STOCK, WORD, Maker, bag_kind, drawn, row_of
 from plainly import plain_difference, plain_sum
-from samples import GREAT, bag, nested, num, row, word
+from samples import GREAT, bag, nested, num
 
 ROW = row_of(("a", NUM), ("b", WORD))
 TABLES = {"n": NUM, "m": NUM, "o": NUM, "t": ROW, "d": row_of(("k", NUM), ("of", bag_kind(NUM))), "h": bag_kind(NUM)}

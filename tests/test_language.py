@@ -42,7 +42,8 @@ def faults(text, methods):
         found += top_faults(node)
     for node in ast.walk(tree):
         found += [(rule, getattr(node, "lineno", 0)) for rule in node_faults(node, methods)]
-    return found + branch_faults(tree, docstring_of(tree)) + place_faults(tree) + name_faults_of_file(tree)
+    found += branch_faults(tree, docstring_of(tree)) + place_faults(tree) + name_faults_of_file(tree)
+    return found + class_faults(tree) + error_faults(tree) + walk_faults(tree) + value_faults(tree)
 
 
 def text_faults(text):
@@ -219,6 +220,76 @@ def name_faults_of_file(tree):
                     if isinstance(node, ast.Name) and isinstance(node.ctx, ast.Store) and node.id in taken]
 
 
+def class_names(tree):
+    """Classes that the file defines or draws in: names of the package's own that begin with a capital."""
+    names = {node.name for node in ast.walk(tree) if isinstance(node, ast.ClassDef)}
+    drawn = [alias.name for node in tree.body if isinstance(node, ast.ImportFrom) for alias in node.names]
+    return names | {name for name in drawn if name[:1].isupper() and not name.isupper()}
+
+
+def class_faults(tree):
+    """Classes kept, handed on or shown (L18), annotations (L21), sets written out (L13)."""
+    parents, own, found = parents_of(tree), class_names(tree), []
+    for node, parent in parents.items():
+        line = getattr(node, "lineno", 0)
+        if isinstance(node, ast.Name) and node.id in own and isinstance(node.ctx, ast.Load):
+            base = isinstance(parent, ast.Attribute) and parent.attr == "__init__"
+            stands = isinstance(parent, (ast.ClassDef, ast.ExceptHandler, ast.Raise)) or base
+            called_here = isinstance(parent, ast.Call) and (parent.func is node or called(parent) == "isinstance")
+            found += [] if stands or called_here else [("L18", line)]
+        if isinstance(node, ast.AnnAssign) or getattr(node, "annotation", None) or getattr(node, "returns", None):
+            found.append(("L21", line))
+        if isinstance(node, ast.Set):
+            found.append(("L13", line))
+    return found
+
+
+def error_faults(tree):
+    """Errors that are taken or raised otherwise than L19 tells; of Python's own the package takes none."""
+    own, found = class_names(tree), []
+    for node in ast.walk(tree):
+        if isinstance(node, ast.ExceptHandler) and not (isinstance(node.type, ast.Name) and node.type.id in own):
+            found.append(("L19", node.lineno))
+        if isinstance(node, ast.Raise) and not isinstance(node.exc, ast.Call):
+            found.append(("L19", node.lineno))
+    return found
+
+
+CHANGES = ("append", "clear", "extend", "insert", "pop", "remove", "reverse", "setdefault", "update")
+
+
+def walk_faults(tree):
+    """What a loop walks and changes: L23."""
+    found = []
+    for node in ast.walk(tree):
+        if isinstance(node, ast.For):
+            walked = {ast.unparse(part) for part in ast.walk(node.iter) if isinstance(part, (ast.Name, ast.Attribute))}
+            for part in [part for row in node.body for part in ast.walk(row)]:
+                changed = called(part) in CHANGES and isinstance(part.func, ast.Attribute)
+                stored = isinstance(part, ast.Subscript) and isinstance(part.ctx, ast.Store)
+                thing = part.func.value if changed else part.value if stored else None
+                if thing is not None and ast.unparse(thing) in walked:
+                    found.append(("L23", part.lineno))
+    return found
+
+
+OTHERS = {name for thing in ("", 0, [], {}, set(), b"", ()) for name in dir(thing)}
+MAY_BE_VALUES = "count index title find get join lower upper split strip copy add".split()
+MAY_BE_METHODS = ["add", "discard", "__init__"] + OWN_METHODS
+
+
+def value_faults(tree):
+    """Names of methods and of objects' values that Python's own values have: L26."""
+    found = []
+    for node in ast.walk(tree):
+        if isinstance(node, ast.ClassDef):
+            found += [("L26", part.lineno) for part in node.body if isinstance(part, ast.FunctionDef)
+                      and part.name in OTHERS and part.name not in MAY_BE_METHODS]
+        if isinstance(node, ast.Attribute) and isinstance(node.ctx, ast.Store):
+            found += [("L26", node.lineno)] if node.attr in OTHERS and node.attr not in MAY_BE_VALUES else []
+    return found
+
+
 def own_attributes(texts):
     """Methods and objects' values that the package itself has."""
     found = []
@@ -314,6 +385,16 @@ class TestLanguage(unittest.TestCase):
             "d = [1]\ndef f(a):\n    d.append(a)": "L15", "d = {1: 2}\ndef f(a):\n    return d": "L15",
             "from keptnest.errors import NoKind\ndef f(a):\n    NoKind = a": "L15",
             "from keptnest.errors import NoKind\ndef f(NoKind):\n    return 1": "L15",
+            "class A:\n    pass\ndef f(a):\n    return [A]": "L18",
+            "class A:\n    pass\ndef f(a):\n    return a(A)": "L18",
+            "def f(a: int):\n    return a": "L21", "def f(a) -> int:\n    return a": "L21",
+            "def f(a):\n    b: int = a": "L21", "def f(a):\n    return a in {1, 2, 3}": "L13",
+            "def f(a):\n    try:\n        a()\n    except Exception:\n        pass": "L19",
+            "def f(a):\n    try:\n        a()\n    except TypeError:\n        pass": "L19",
+            "class A(ValueError):\n    pass\ndef f(a):\n    raise A": "L19",
+            "def f(a):\n    for b in a:\n        a.append(b)": "L23",
+            "def f(a):\n    for b, c in enumerate(a):\n        a[b] = c": "L23",
+            "def f(self):\n    self.items = 1": "L26", "class A:\n    def encode(self):\n        return 1": "L26",
             "class A:\n    x = 1": "L5", "def f():\n" + "    pass\n" * 40: "L10", "x = '%'": "L27",
         }
         for text, rule in outside.items():

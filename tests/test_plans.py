@@ -92,6 +92,7 @@ class TestFits(unittest.TestCase):
             ("under at a var x num 1", False), ("not same at a var x num 1", False), ("same num 1 num 1", False),
             ("or same at a var x num 1 same at a var x num 1", False), ("same add at a var x num 1 num 1", False),
             ("same num 1 mul num 1 at a var x", False), ("same at a at z var x num 1", False),
+            ("same at a at x var x num 1", False), ("same num 1 at a at x var x", False),
             ("same at a var x add num 1 num 2", True), ("same at a var x add num 1 at c var x", False),
         ):
             branch, = branches(read_question(f"for x table p when {claim} one num 1"))
@@ -110,6 +111,13 @@ class TestFits(unittest.TestCase):
             self.assertIs(fits(branch, (("seek", 1, 0), ("go", 0))), False)
         branch, = branches(read_question("for x table n when same var x num 1 one num 1"))
         self.assertIs(fits(branch, (("seek", 0, 0),)), False)
+
+    def test_what_no_gen_has_is_never_gone_through(self):
+        claim = ("same", ("at", "a", ("var", "x")), ("at", "a", ("var", "z")))
+        branch = (1, (("x", "p"), ("y", "p")), (claim,), num(1))
+        for plan in itertools.permutations([("go", 0), ("go", 1), ("ask", 0)]):
+            self.assertIs(fits(branch, plan), False)
+        self.assertIs(fits(branch, (("go", 1), ("seek", 0, 0))), False)
 
     def test_gens_of_one_name(self):
         branch, = branches(read_question("for x table p for x table q when same at a var x num 1 one at a var x"))

@@ -86,6 +86,48 @@ class TestShortened(unittest.TestCase):
                 self.assertTrue(is_short(told))
                 self.assertIn(rule, [used for path, used in chain])
 
+    def test_what_becomes_of_lets_is_turned_on(self):
+        # Each let stands where its question is known only when it is put in, and then fits the rules around it.
+        claim, store = "same num 2 num 2", {"n": bag((num(1), 2), (num(2), -1)), "m": bag((num(2), 3))}
+        bags = (
+            "table n", "none num", "one num 2", "both table n one num 3", "times 3 table m", "times 3 one num 1",
+            f"when {claim} table n", f"when {claim} one num 4", f"when {claim} none num", "for q table n one var q",
+            f"for q table m when {claim} one var q", "both times 2 table n both one num 1 for q table n table m",
+            f"times 2 for q table n when {claim} table m", f"both when {claim} one num 1 times 2 one num 2",
+            "both both one num 1 one num 2 both one num 3 table n",
+        )
+        around = (
+            "for x {} one add var x num 1", "for x {} both one var x times 2 table m", "for x {} {}", "times 2 {}",
+            "times 2 times 3 {}", "when same num 1 num 1 {}", "when same num 1 num 1 times 2 {}", "for x table n {}",
+            "for y for x {} one var x one var y", "for x table n times 2 {}", "both {} {}", "one {}",
+            "for x when same num 1 num 1 {} one var x", "for x times 2 {} one var x", "for x both {} {} one var x",
+            "when same num 1 num 1 for x {} one var x", "times 2 for x {} {}", "for x table n for y {} {}",
+        )
+        for inner in bags:
+            for whole in around:
+                for let in ("let z num 1 ", "let z table n ", "at f row 2 e num 1 f ", "let f row 1 a one num 1 ", ""):
+                    question = read_question(whole.replace("{}", let + inner))
+                    told, chain = self.short(question)
+                    self.assertTrue(is_short(told), question_shown(question))
+                    self.assertEqual(answer(told, {}, store), plain_answer(question, {}, store))
+
+    def test_lets_of_bags_are_turned_on(self):
+        claim, store = "same num 2 num 2", {"n": bag((num(1), 2), (num(2), -1)), "m": bag((num(2), 3))}
+        for inner in ("table n", "none num", "one num 2", "both table n one num 3", "times 3 table m",
+                      f"when {claim} one num 4", f"for q table m when {claim} one var q", "times 2 one num 1"):
+            for use in ("for x var z one add var x num 1", "for x var z for y var z one add var x var y",
+                        "times 2 var z", "when same num 1 num 1 var z", "for x table n var z",
+                        "both var z times -1 var z", "for x var z when under var x num 2 var z",
+                        "for x at a row 1 a var z one var x",
+                        "for x when same num 1 num 1 var z times 2 var z", "one row 1 a for x var z one var x"):
+                by_field = use.replace("var z", "at a var z")
+                for let in (f"let z {inner} {use}", f"let z row 2 a {inner} b num 1 {by_field}",
+                            f"for z one {inner} {use}"):
+                    question = read_question(let)
+                    told, chain = self.short(question)
+                    self.assertTrue(is_short(told), let)
+                    self.assertEqual(answer(told, {}, store), plain_answer(question, {}, store))
+
     def test_all_words(self):
         question = read_question(ALL_WORDS)
         told, chain = self.short(question)
@@ -173,9 +215,9 @@ class TestBounds(unittest.TestCase):
             self.assertEqual(answer(told, {}, store), plain_answer(question, {}, store))
 
     def test_what_goes_is_not_looked_at(self):
-        # Shortened by itself it would have more than a million parts.
+        # Shortened by itself it would have more than three hundred million parts.
         great = "one num 1"
-        for letter in "abcdefgh":
+        for letter in "abcdefghijk":
             great = f"for x{letter} both both table n table m both both table n table n both table m table m {great}"
         for text, wanted in (
             (f"let z {great} one num 1", "one num 1"), (f"at f row 2 f one num 1 g {great}", "one num 1"),

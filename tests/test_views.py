@@ -1,7 +1,7 @@
 import unittest
 
 from keptnest.asks.answers import answer
-from keptnest.asks.questions import question_shown, read_question, tables
+from keptnest.asks.questions import question_shown, read_question
 from keptnest.changes.differences import changed
 from keptnest.changes.views import View
 from keptnest.data.signs import is_name, new_name

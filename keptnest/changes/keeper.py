@@ -11,28 +11,25 @@ from keptnest.turns.rules import led
 
 
 class Keeper:
+    # What is kept under a name is its question and the answer.
     def __init__(self, stock, store):
         self.stock = dict(stock)
         self.rows = dict(store)
-        self.asked = {}
         self.kept = {}
 
     def keep(self, name, question):
         self.refuse_kept(name)
         refuse_no_bag(question, self.stock)
-        self.kept[name] = answer(question, {}, self.rows)
-        self.asked[name] = question
+        self.kept[name] = (question, answer(question, {}, self.rows))
 
     def offer(self, name, elder, chain, question):
         self.refuse_kept(name)
-        refuse_no_bag(question, self.stock)
+        # What a chain leads to is of the elder's kind, so that this need not be asked.
         refuse_not_led(self.question_under(elder), chain, question)
-        self.kept[name] = self.kept[elder]
-        self.asked[name] = question
+        self.kept[name] = (question, self.told(elder))
 
     def throw(self, name):
         self.refuse_not_kept(name)
-        self.asked.pop(name)
         self.kept.pop(name)
 
     def change(self, change):
@@ -46,31 +43,33 @@ class Keeper:
             self.bring_on(change)
 
     def bring_on(self, change):
-        for name in self.asked:
-            more = answer_of_difference(self.asked[name], self.stock, self.rows, change)
-            self.kept[name] = added(self.kept[name], more)
+        brought = {}
+        for name, pair in self.kept.items():
+            more = answer_of_difference(pair[0], self.stock, self.rows, change)
+            brought[name] = (pair[0], added(pair[1], more))
+        self.kept = brought
         self.rows = changed(self.rows, change)
 
     def told(self, name):
         self.refuse_not_kept(name)
-        return self.kept[name]
+        return self.kept[name][1]
 
     def question_under(self, name):
         self.refuse_not_kept(name)
-        return self.asked[name]
+        return self.kept[name][0]
 
     def names(self):
-        return sorted(self.asked)
+        return sorted(self.kept)
 
     def store(self):
         return dict(self.rows)
 
     def refuse_kept(self, name):
-        if name in self.asked:
+        if name in self.kept:
             raise NoKeep("the name is kept already")
 
     def refuse_not_kept(self, name):
-        if name not in self.asked:
+        if name not in self.kept:
             raise NoKeep("the name is not kept")
 
 

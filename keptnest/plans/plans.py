@@ -44,7 +44,9 @@ def best(branch, store):
             behind = with_gen(gone, gen)
             for way in next_steps(branch, gone, gen):
                 choices.append((survey.looked(gone, way) + least[behind], way))
-        least[gone], ways[gone] = min(choices)
+        fewest = min(choices)
+        least[gone] = fewest[0]
+        ways[gone] = fewest[1]
     return plan_of(branch, ways)
 
 
@@ -110,11 +112,8 @@ class Survey:
         return [group for group in groups if group != ()]
 
     def looked(self, gone, way):
-        if way[0] == "go":
-            return self.many(gone) * len(self.rows[self.branch[1][way[1]][1]][1])
-        names = needed(self.branch, way)
-        touched = [group for group in self.linked(gone) if any([gen in names for gen in group])]
-        around = joined(touched)
+        named = needed(self.branch, way)
+        around = joined([group for group in self.linked(gone) if any([gen in named for gen in group])])
         apart = tuple([gen for gen in gone if gen not in around])
         return self.many(apart) * len(done(self.branch, way, self.states(around), self.rows))
 

@@ -37,7 +37,7 @@ def numbers_fit(numbers, bounds):
 
 def sought(branch, step):
     # The field by which rows are sought and the question that it is to be the same as, or None.
-    word, gen, claim = step
+    gen, claim = step[1:]
     asked = branch[2][claim]
     if asked[0] != "same":
         return None

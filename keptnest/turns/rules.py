@@ -106,61 +106,63 @@ def at_row(knot, spare):
 
 
 def let_in(knot, spare):
-    word, name, other, inner = knot
+    name, other, inner = knot[1:]
     return put(inner, name, other, spare)
 
 
 def for_one(knot, spare):
-    word, name, one, inner = knot
+    name, one, inner = knot[1:]
     return ("let", name, one[1], inner)
 
 
 def for_for(knot, spare):
-    word, outer, (same, name, over, middle), inner = knot
-    if name != outer and is_free(name, inner):
+    outer, within, last = knot[1:]
+    name, over, inner = within[1:]
+    if name != outer and is_free(name, last):
         fresh = spare.fresh()
-        middle = renamed(middle, name, fresh, spare)
+        inner = renamed(inner, name, fresh, spare)
         name = fresh
-    return ("for", name, over, ("for", outer, middle, inner))
+    return ("for", name, over, ("for", outer, inner, last))
 
 
 def for_both(knot, spare):
-    word, name, (both, one, other), inner = knot
-    return ("both", ("for", name, one, inner), ("for", name, other, inner))
+    name, both, inner = knot[1:]
+    return ("both", ("for", name, both[1], inner), ("for", name, both[2], inner))
 
 
 def for_times(knot, spare):
-    word, name, (times, k, over), inner = knot
-    return ("times", k, ("for", name, over, inner))
+    name, times, inner = knot[1:]
+    return ("times", times[1], ("for", name, times[2], inner))
 
 
 def for_when(knot, spare):
-    word, name, (when, claim, over), inner = knot
-    return ("when", claim, ("for", name, over, inner))
+    name, when, inner = knot[1:]
+    return ("when", when[1], ("for", name, when[2], inner))
 
 
 def both_in(knot, spare):
-    word, name, over, (both, one, other) = knot
-    return ("both", ("for", name, over, one), ("for", name, over, other))
+    name, over, both = knot[1:]
+    return ("both", ("for", name, over, both[1]), ("for", name, over, both[2]))
 
 
 def times_in(knot, spare):
-    word, name, over, (times, k, inner) = knot
-    return ("times", k, ("for", name, over, inner))
+    name, over, times = knot[1:]
+    return ("times", times[1], ("for", name, over, times[2]))
 
 
 def when_both(knot, spare):
-    word, claim, (both, one, other) = knot
-    return ("both", ("when", claim, one), ("when", claim, other))
+    claim, both = knot[1:]
+    return ("both", ("when", claim, both[1]), ("when", claim, both[2]))
 
 
 def when_times(knot, spare):
-    word, claim, (times, k, inner) = knot
-    return ("times", k, ("when", claim, inner))
+    claim, times = knot[1:]
+    return ("times", times[1], ("when", claim, times[2]))
 
 
 def when_for(knot, spare):
-    word, claim, (same, name, over, inner) = knot
+    claim, within = knot[1:]
+    name, over, inner = within[1:]
     if is_free(name, claim):
         fresh = spare.fresh()
         inner = renamed(inner, name, fresh, spare)
@@ -169,18 +171,18 @@ def when_for(knot, spare):
 
 
 def when_when(knot, spare):
-    word, claim, (when, other, inner) = knot
-    return ("when", ("and", claim, other), inner)
+    claim, when = knot[1:]
+    return ("when", ("and", claim, when[1]), when[2])
 
 
 def times_times(knot, spare):
-    word, k, (times, other, inner) = knot
-    return ("times", k * other, inner)
+    k, times = knot[1:]
+    return ("times", k * times[1], times[2])
 
 
 def times_both(knot, spare):
-    word, k, (both, one, other) = knot
-    return ("both", ("times", k, one), ("times", k, other))
+    k, both = knot[1:]
+    return ("both", ("times", k, both[1]), ("times", k, both[2]))
 
 
 def swap_both(knot, spare):
@@ -188,8 +190,8 @@ def swap_both(knot, spare):
 
 
 def group_both(knot, spare):
-    word, (both, one, other), last = knot
-    return ("both", one, ("both", other, last))
+    both, last = knot[1:]
+    return ("both", both[1], ("both", both[2], last))
 
 
 def times_one(knot, spare):
@@ -197,12 +199,13 @@ def times_one(knot, spare):
 
 
 def un_for(knot, spare):
-    word, name, over, (one, inner) = knot
-    return over if inner == ("var", name) else None
+    name, over, one = knot[1:]
+    return over if one[1] == ("var", name) else None
 
 
 def swap_for(knot, spare):
-    word, name, over, (same, other, more, inner) = knot
+    name, over, within = knot[1:]
+    other, more, inner = within[1:]
     if is_free(name, more):
         return None
     if is_free(other, over):

@@ -86,7 +86,7 @@ def all_later(work, path, steps):
 
 def bind(work, path):
     # A let whose inner question is short already: what it binds is not looked at where nothing becomes of it.
-    word, name, other, inner = work.at(path)
+    name, other, inner = work.at(path)[1:]
     uses = uses_of(name, inner)
     work.later(put_in_place, path)
     fields = [field for use, field in uses]
@@ -113,7 +113,7 @@ def uses_of(name, question):
 
 
 def put_in_place(work, path):
-    word, name, other, inner = work.at(path)
+    name, other, inner = work.at(path)[1:]
     uses = uses_of(name, inner)
     work.turn(path, "letin")
     # The longer paths are done first, and so each behind all those below it.
@@ -172,7 +172,7 @@ AFTER = {
     "fortimes": ((check, (0,)), (check, ())),
     "forwhen": ((check, (1,)), (check, ())),
     "bothin": ((check, (0,)), (check, (1,))),
-    "timesin": ((check, (0,)), (check, ())),
+    "timesin": ((check, ()),),
     "whenboth": ((check, (0,)), (check, (1,))),
     "whentimes": ((check, (0,)), (check, ())),
     "whenfor": ((check, (1,)), (check, ())),
