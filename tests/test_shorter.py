@@ -227,6 +227,10 @@ class TestBounds(unittest.TestCase):
             (f"for z both one row 2 f num 1 g {great} one row 2 f num 2 g none num one at f var z",
              "both one num 1 one num 2"),
             (f"let z one num 1 at f row 2 f var z g let y {great} var y", "one num 1"),
+            (f"at f let z one num 1 row 2 f var z g {great}", "one num 1"),
+            (f"at f let z {great} row 2 f one num 1 g var z", "one num 1"),
+            (f"at f at e let y one num 1 let z {great} row 2 d var z e row 1 f var y", "one num 1"),
+            (f"let q at f let z num 1 row 2 f one var z g {great} for x var q one var x", "one num 1"),
         ):
             self.assertEqual(question_shown(self.short(read_question(text))), wanted)
 

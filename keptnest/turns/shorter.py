@@ -2,7 +2,7 @@
 
 from keptnest.asks.questions import bound_in, under
 from keptnest.turns.places import Place
-from keptnest.turns.rules import has_shape, turns
+from keptnest.turns.rules import has_shape, is_free, turns
 
 
 class Shortening:
@@ -42,14 +42,17 @@ def shortened(question):
 
 def visit(work, path):
     knot = work.at(path)
-    if knot[0] == "at" and work.turn(lowest_at(knot, path), "atrow"):
-        # Ahead of all that lies within, as only one part of the row stays.
-        work.later(visit, path)
+    if knot[0] == "at":
+        visit_at(work, path, knot)
     elif knot[0] in FIRST_WITHIN:
         all_later(work, path, FIRST_WITHIN[knot[0]])
     else:
-        work.later(check, path)
-        visit_parts(work, path, list(range(len(under(knot)))))
+        visit_below(work, path, knot)
+
+
+def visit_below(work, path, knot):
+    work.later(check, path)
+    visit_parts(work, path, list(range(len(under(knot)))))
 
 
 def visit_parts(work, path, places):
@@ -57,11 +60,32 @@ def visit_parts(work, path, places):
         work.later(visit, path + (place,))
 
 
-def lowest_at(knot, path):
+def visit_at(work, path, knot):
+    # The row is turned ahead of all that lies within, as only one part of it stays.
+    lowest = path
     while knot[2][0] == "at":
         knot = knot[2]
-        path = path + (0,)
-    return path
+        lowest = lowest + (0,)
+    if work.turn(lowest, "atrow"):
+        work.later(visit, path)
+    elif knot[2][0] == "let":
+        work.later(visit, path)
+        work.later(put_in_first, lowest + (0,))
+        if is_asked(knot[1], knot[2]):
+            work.later(visit, lowest + (0, 0))
+    else:
+        visit_below(work, path, work.at(path))
+
+
+def is_asked(field, let):
+    name, other, inner = let[1:]
+    if inner[0] == "row":
+        inner = dict(inner[1]).get(field, inner)
+    return is_free(name, inner)
+
+
+def put_in_first(work, path):
+    work.turn(path, "letin")
 
 
 def go_on(work, path):
