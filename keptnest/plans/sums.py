@@ -4,7 +4,6 @@ from keptnest.asks.answers import answer
 from keptnest.plans.steps import begun, done, plan_in_order
 
 
-
 def sums(branch, store):
     often = {}
     for values, product, tokens in all_states(branch, store):
