@@ -137,7 +137,7 @@ def plain_rule(rule, knot, fresh):
             return Q
         case "swapfor", ("for", x, P, ("for", y, Q, R)) if x not in plain_free(Q):
             y, R = renamed_where(y in plain_free(P), y, R, fresh)
-            return ("for", y, Q, ("for", fresh() if x == y and y in plain_free(R) else x, P, R))
+            return ("for", y, Q, ("for", fresh() if x == y else x, P, R))
     return None
 
 

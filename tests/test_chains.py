@@ -71,6 +71,13 @@ class TestChains(unittest.TestCase):
         told = led(question, (((0,), "letin"), ((0,), "swapfor")))
         self.assertEqual(question_shown(told), "times 2 for b table m for a var z one add var y var a")
 
+    def test_swapped_there_and_back(self):
+        question = read_question("both table o for x table n for x table m one num 1")
+        there = (((1,), "swapfor"),)
+        self.assertEqual(question_shown(led(question, there)), "both table o for x table m for a table n one num 1")
+        self.assertEqual(question_shown(led(question, there + there)),
+                         "both table o for a table n for x table m one num 1")
+
     def test_drawn_rows_of_turnings(self):
         steps = 0
         for place, (question, kind, kinds, values, store) in enumerate(drawn_open(74, 250)):

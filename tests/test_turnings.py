@@ -113,8 +113,14 @@ BY_RULE = {
         # Of one name: what is asked of it is the inner one's.
         ("for x table n for x table m one var x", "for x table m for a table n one var x"),
         ("for x var x for x table m one var x", "for a table m for x var x one var a"),
-        ("for x table n for x table m one num 1", "for x table m for x table n one num 1"),
         ("for x var x for x table m one num 1", "for a table m for x var x one num 1"),
+        # The outer one of that name is renamed also where nothing is asked of it within, or it is bound again there.
+        ("for x table n for x table m one num 1", "for x table m for a table n one num 1"),
+        ("for x table n for x table n table n", "for x table n for a table n table n"),
+        ("for x table n for x table m for x table n one var x", "for x table m for a table n for x table n one var x"),
+        ("for x table n for x table m let x num 1 one var x", "for x table m for a table n let x num 1 one var x"),
+        ("for x table n for x for y table m one var y var z", "for x for y table m one var y for a table n var z"),
+        ("for x var x for x table m for x table n one var x", "for a table m for x var x for x table n one var x"),
         ("for x table n for x table m for x var x one var x", "for x table m for a table n for x var x one var x"),
         ("for x var y for y table m for y var y one add var x var y",
          "for a table m for x var y for y var a one add var x var y"),
@@ -191,6 +197,7 @@ class TestRules(unittest.TestCase):
                  "for b table n when same num 1 var x one var b"),
                 ("swapfor", "for x var y for y table n one var y", "for b table n for x var y one var b"),
                 ("swapfor", "for x table n for x table m one var x", "for x table m for b table n one var x"),
+                ("swapfor", "for x table n for x table m one num 1", "for x table m for b table n one num 1"),
             ):
                 self.assertEqual(question_shown(turned(read_question(f"both {taken} {text}"), (1,), rule)),
                                  f"both {taken} {wanted}")

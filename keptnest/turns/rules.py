@@ -212,8 +212,8 @@ def swap_for(knot, spare):
         fresh = spare.fresh()
         inner = renamed(inner, other, fresh, spare)
         other = fresh
-    # Only where something in it is the inner one's: else nothing is brought under the outer one.
-    if name == other and is_free(other, inner):
+    # Asked behind the other one's renaming, as a renamed one has the name no more.
+    if name == other:
         name = spare.fresh()
     return ("for", other, more, ("for", name, over, inner))
 
